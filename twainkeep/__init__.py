@@ -1,0 +1,1 @@
+"""Twainkeep: texts of two tongues kept in step."""

@@ -1,0 +1,33 @@
+"""The words of a text, its size, and the known words that two rows of texts share."""
+
+
+def is_word_sign(sign):
+    # Asked by range, as isalnum would take letters of other alphabets too.
+    return "a" <= sign <= "z" or "A" <= sign <= "Z" or "0" <= sign <= "9"
+
+
+def words_of(text):
+    spaced = "".join([sign if is_word_sign(sign) else " " for sign in text])
+    return tuple(spaced.split())
+
+
+def cores_of(text):
+    return tuple([word.lower() for word in words_of(text)])
+
+
+def size_of(text):
+    return len(text) - text.count(" ") - text.count("\n")
+
+
+def cores_among(texts):
+    cores = {}
+    for text in texts:
+        for core in cores_of(text):
+            cores[core] = True
+    return cores
+
+
+def hits(ones, others, words):
+    left = cores_among(ones)
+    right = cores_among(others)
+    return len([pair for pair in words if pair[0] in left and pair[1] in right])
