@@ -1,4 +1,4 @@
-"""Holds the package against the rules of the language that can be seen in its tree."""
+"""Holds the package against those rules of the language that are easily seen in its tree, by far not all of them."""
 
 import ast
 import builtins
