@@ -36,6 +36,15 @@ NODES = (
 
 OPERATORS_OUT = (ast.Div, ast.MatMult)
 
+PLAIN_VALUES = (ast.Constant, ast.Name, ast.List, ast.Tuple, ast.Dict, ast.UnaryOp, ast.USub, ast.Load)
+
+KEYWORDS = {"sorted": ("key", "reverse"), "min": ("key", "default"), "max": ("key", "default"), "sum": ("start",),
+            "enumerate": ("start",), "zip": ("strict",)}
+
+WALKED = ("zip", "enumerate", "reversed", "range", "items", "keys", "values")
+
+WALKERS = ("list", "tuple", "dict", "sorted", "sum", "any", "all", "enumerate", "zip", "min", "max", "join")
+
 
 def package_files():
     return sorted(PACKAGE.rglob("*.py"))
@@ -56,6 +65,18 @@ def own_methods():
             if isinstance(node, ast.ClassDef):
                 found.update(part.name for part in node.body if isinstance(part, ast.FunctionDef))
     return found
+
+
+def called(node):
+    """The name by which a call calls, be it a function's or a method's."""
+    return getattr(node.func, "id", getattr(node.func, "attr", None)) if isinstance(node, ast.Call) else None
+
+
+def with_parents(tree):
+    for parent in ast.walk(tree):
+        for node in ast.iter_child_nodes(parent):
+            node.above = parent
+    return tree
 
 
 class FilesTest(unittest.TestCase):
@@ -137,14 +158,16 @@ class FormsTest(unittest.TestCase):
             for node in tree_of(path).body[1:]:
                 self.assertIsInstance(node, (ast.ImportFrom, ast.FunctionDef, ast.ClassDef, ast.Assign), path.name)
                 if isinstance(node, ast.Assign):
-                    self.assertNotIsInstance(node.value, (ast.Call, ast.ListComp, ast.Set), path.name)
+                    for each in ast.walk(node.value):
+                        self.assertIsInstance(each, PLAIN_VALUES, (path.name, node.lineno))
 
     def test_functions(self):
         for node, where in self.each_node(ast.FunctionDef):
             self.assertLessEqual(node.end_lineno - node.lineno + 1, 40, where)
             self.assertEqual(node.decorator_list, [], where)
             given = node.args
-            self.assertEqual((given.vararg, given.kwarg, given.kwonlyargs, given.posonlyargs), (None, None, [], []), where)
+            self.assertEqual((given.vararg, given.kwarg, given.kwonlyargs, given.posonlyargs), (None, None, [], []),
+                             where)
             for each in given.args:
                 self.assertNotIn(each.arg, dir(builtins), where)
 
@@ -180,6 +203,44 @@ class FormsTest(unittest.TestCase):
             self.assertIsInstance(node.value, (int, str, type(None)), where)
             if isinstance(node.value, str):
                 self.assertNotIn("%", node.value, where)
+
+    def test_locals_are_not_called_like_imports_or_classes(self):
+        for path in package_files():
+            tree = tree_of(path)
+            taken = [node.name for node in tree.body if isinstance(node, ast.ClassDef)]
+            for node in tree.body:
+                if isinstance(node, ast.ImportFrom):
+                    taken.extend(alias.asname or alias.name for alias in node.names)
+            for node in ast.walk(tree):
+                if isinstance(node, ast.arg):
+                    self.assertNotIn(node.arg, taken, (path.name, node.lineno))
+                if isinstance(node, ast.Name) and isinstance(node.ctx, ast.Store):
+                    self.assertNotIn(node.id, taken, (path.name, node.lineno))
+
+    def test_keywords(self):
+        for node, where in self.each_node(ast.Call):
+            name = called(node)
+            if name in BUILTINS or name in METHODS:
+                for keyword in node.keywords:
+                    self.assertIn(keyword.arg, KEYWORDS.get(name, ()), where)
+
+    def test_sets_are_asked_or_ordered_on_the_spot(self):
+        for path in package_files():
+            for node in ast.walk(with_parents(tree_of(path))):
+                if called(node) in ("set", "frozenset"):
+                    above = node.above
+                    while isinstance(above, ast.BinOp):
+                        above = above.above
+                    asked = isinstance(above, ast.Compare) or called(above) in ("sorted", "len")
+                    self.assertTrue(asked, (path.name, node.lineno))
+
+    def test_what_is_walked_is_not_kept(self):
+        for path in package_files():
+            for node in ast.walk(with_parents(tree_of(path))):
+                if called(node) in WALKED:
+                    above = node.above
+                    walked = isinstance(above, (ast.For, ast.comprehension)) and above.iter == node
+                    self.assertTrue(walked or called(above) in WALKERS, (path.name, node.lineno))
 
 
 if __name__ == "__main__":
