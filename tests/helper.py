@@ -72,6 +72,12 @@ class Ledger:
         alone = sorted(name for name in self.kin if self.kin[name] == "alone")
         return (sides[0], sides[1], tuple(sorted(links)), tuple(alone))
 
+    def pair(self, deed):
+        """What a link or step deed just done tells: the left texts, the right ones, its moment."""
+        number = self.kin[deed[2][0] if deed[0] == "link" else deed[2]]
+        texts = ["".join(self.texts[name] for name in row if self.kin[name] == number) for row in self.rows]
+        return (texts[0], texts[1], deed[1])
+
     def refusal(self, deed):
         """The class with which the deed is refused, None where it can be done."""
         return getattr(self, "refuse_" + deed[0])(*deed[2:])
@@ -230,6 +236,44 @@ class Ledger:
 
     def do_lack(self, t, name):
         self.kin[name] = None
+
+
+def own_things(book, deeds):
+    """The sets of things that deeds touch, done one behind the other."""
+    ledger, things = Ledger(book), []
+    for deed in deeds:
+        things.append(ledger.touches(deed))
+        ledger.do(deed)
+    return things
+
+
+def own_book(book, deeds):
+    """The book behind deeds done one behind the other, None where one of them can't be done."""
+    ledger = Ledger(book)
+    for deed in deeds:
+        if ledger.refusal(deed) is not None:
+            return None
+        ledger.do(deed)
+    return ledger.book()
+
+
+def own_hanging(things, k):
+    """The places of those that hang on the k-th: all that some chain of meeting deeds leads to, each behind the
+    one ahead of it in the chain."""
+    found = {k}
+    for turn in things:
+        found |= {j for i in found for j in range(i + 1, len(things)) if things[i] & things[j]}
+    return sorted(found)
+
+
+def own_pairs(book, deeds):
+    """A dict of what each link and step deed tells, by its place, done one behind the other."""
+    ledger, told = Ledger(book), {}
+    for place, deed in enumerate(deeds):
+        ledger.do(deed)
+        if deed[0] in ("link", "step"):
+            told[place] = ledger.pair(deed)
+    return told
 
 
 def name_rows(names, most):

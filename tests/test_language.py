@@ -17,6 +17,10 @@ METHODS = set("""append clear copy count endswith extend find get index insert i
     isupper items join keys ljust lower lstrip partition pop remove replace reverse rfind rjust rpartition rsplit
     rstrip setdefault split splitlines startswith strip update upper values zfill bit_length""".split())
 
+VALUES = set("count index title find get join lower upper split strip copy add".split())
+
+TAKEN = {name for kind in (str, int, float, list, tuple, dict, set, frozenset, bytes, bytearray) for name in dir(kind)}
+
 UNDERSCORED = {"__init__", "__eq__", "__repr__", "__str__", "__len__"}
 
 WORDS_NOWHERE = re.compile(r"\b(type|typing|typing_extensions|enum|Enum|IntEnum|StrEnum|Flag|IntFlag|Generic|Protocol|"
@@ -177,6 +181,27 @@ class FormsTest(unittest.TestCase):
             self.assertEqual((node.decorator_list, node.keywords), ([], []), where)
             for part in node.body:
                 self.assertIsInstance(part, (ast.FunctionDef, ast.Pass), where)
+
+    def test_names_of_methods_and_of_values(self):
+        methods, values = own_methods() - UNDERSCORED, set()
+        for node, where in self.each_node(ast.Attribute):
+            if isinstance(node.ctx, ast.Store):
+                values.add(node.attr)
+                self.assertEqual(getattr(node.value, "id", None), "self", where)
+        self.assertEqual(methods & values, set())
+        self.assertEqual(methods & TAKEN - METHODS - {"add", "discard"}, set())
+        self.assertEqual(values & (TAKEN | {"args"}) - VALUES, set())
+
+    def test_methods_stand_once_and_begin_with_self(self):
+        for node, where in self.each_node(ast.ClassDef):
+            methods = [part for part in node.body if isinstance(part, ast.FunctionDef)]
+            self.assertEqual(len({part.name for part in methods}), len(methods), where)
+            for part in methods:
+                self.assertEqual(part.args.args[0].arg, "self", where)
+                if part.name == "__init__":
+                    self.assertFalse([each for each in ast.walk(part) if isinstance(each, ast.Return)], where)
+                else:
+                    self.assertNotIn(part.name, UNDERSCORED, where)
 
     def test_names(self):
         for node, where in self.each_node(ast.Name):

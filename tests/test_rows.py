@@ -4,10 +4,11 @@ import itertools
 import random
 import unittest
 
-from helper import BOOK, CROSSED, Ledger, drawn_deeds, every_deed
+from helper import BOOK, CROSSED, Ledger, drawn_deeds, every_deed, own_pairs, own_things
 from twainkeep.books import EMPTY, is_book
 from twainkeep.deeds import all_done, done, is_deed
 from twainkeep.errors import TwainError
+from twainkeep.keeper import Keeper
 from twainkeep.states import in_step, lacking, stale, state_of, states
 from twainkeep.touching import keeps, meeting, touched
 
@@ -20,6 +21,18 @@ def touched_by_each(book, deeds, places):
     for place in places:
         told[place] = touched(book, deeds[place])
         book = done(book, deeds[place])
+    return told
+
+
+def told_by_each(book, deeds, places):
+    """The pairs that the deeds tell when done in the order of places, by the place of each."""
+    keeper = Keeper(book)
+    told = {}
+    for place in places:
+        count = len(keeper.pairs())
+        keeper.do(deeds[place])
+        if len(keeper.pairs()) > count:
+            told[place] = keeper.pairs()[-1]
     return told
 
 
@@ -56,33 +69,34 @@ class StatesByTheDeedsTest(unittest.TestCase):
 
 
 class OrdersTest(unittest.TestCase):
-    def own_pairs(self, book, deeds):
-        ledger, things = Ledger(book), []
-        for deed in deeds:
-            things.append(ledger.touches(deed))
-            ledger.do(deed)
+    def own_meeting(self, book, deeds):
+        things = own_things(book, deeds)
         return tuple((i, j) for i, j in itertools.combinations(range(len(deeds)), 2) if things[i] & things[j])
 
     def check_order(self, book, deeds, places, behind, told):
         self.assertIs(keeps(book, deeds, places), True, (deeds, places))
         self.assertEqual(all_done(book, [deeds[place] for place in places]), behind, (deeds, places))
         self.assertEqual(touched_by_each(book, deeds, places), told, (deeds, places))
+        pairs = own_pairs(book, deeds)
+        self.assertEqual(told_by_each(book, deeds, places), pairs, (deeds, places))
+        return len(pairs)
 
     def test_every_order_that_keeps(self):
-        orders = 0
+        orders, pairs_told = 0, 0
         for seed in range(100, 160):
             book = BOOKS[seed % 3]
             deeds = drawn_deeds(seed, book, 5)
-            pairs = self.own_pairs(book, deeds)
+            pairs = self.own_meeting(book, deeds)
             self.assertEqual(meeting(book, deeds), pairs, deeds)
             behind, told = all_done(book, deeds), touched_by_each(book, deeds, range(5))
             for places in itertools.permutations(range(5)):
                 if all(places.index(i) < places.index(j) for i, j in pairs):
-                    self.check_order(book, deeds, places, behind, told)
+                    pairs_told += self.check_order(book, deeds, places, behind, told)
                     orders += 1
                 else:
                     self.assertIs(keeps(book, deeds, places), False, (deeds, places))
         self.assertGreater(orders, 1000)
+        self.assertGreater(pairs_told, 500)
 
     def drawn_order(self, draw, count, pairs):
         places = []
@@ -95,7 +109,7 @@ class OrdersTest(unittest.TestCase):
         for seed in range(200, 230):
             book = BOOKS[seed % 3]
             deeds = drawn_deeds(seed, book, 25)
-            pairs = self.own_pairs(book, deeds)
+            pairs = self.own_meeting(book, deeds)
             self.assertEqual(meeting(book, deeds), pairs, deeds)
             behind, told = all_done(book, deeds), touched_by_each(book, deeds, range(25))
             draw = random.Random(seed)

@@ -1,14 +1,10 @@
 """Books: two rows of parts, the links between them, and the parts told to stand for nothing."""
 
 from twainkeep.errors import NoPart
-from twainkeep.kinds import is_moment, is_text, rises
+from twainkeep.kinds import is_moment, is_row_of, is_text, rises
 from twainkeep.names import is_name
 
 EMPTY = ((), (), (), ())
-
-
-def is_row_of(thing, count):
-    return isinstance(thing, tuple) and len(thing) == count
 
 
 def are_moments(thing):

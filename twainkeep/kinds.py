@@ -1,4 +1,4 @@
-"""What a thing is: a number, a moment, a side, a text; and whether a row rises."""
+"""What a thing is: a number, a moment, a side, a text, a row of so many; and whether a row rises."""
 
 LAST_MOMENT = 1000000000000
 
@@ -22,6 +22,10 @@ def is_sign(sign):
 
 def is_text(thing):
     return isinstance(thing, str) and all([is_sign(sign) for sign in thing])
+
+
+def is_row_of(thing, count):
+    return isinstance(thing, tuple) and len(thing) == count
 
 
 def rises(row):
