@@ -1,6 +1,7 @@
-"""Books, rows of deeds and things of any kind for the tests; and an own count of deeds, written once more from the
-document's words, to hold the program against."""
+"""Books, rows of deeds, texts and things of any kind for the tests; and an own count of deeds, and of ways and what
+they cost, written once more from the document's words, to hold the program against."""
 
+import functools
 import itertools
 import random
 import re
@@ -341,6 +342,156 @@ def drawn_deeds(seed, book, count):
     return tuple(deeds)
 
 
+def runs(count):
+    """The rows of neighbours among so many places, the empty one with them."""
+    return [()] + [tuple(range(first, last)) for first in range(count) for last in range(first + 1, count + 1)]
+
+
+@functools.lru_cache(maxsize=None)
+def own_steps(m, n):
+    """All steps that may stand in a way through m left texts and n right ones, wherever."""
+    counts = {(0, 1), (1, 0), (1, 1), (1, 2), (1, 3), (2, 1), (3, 1)}
+    found = [((ones, others),) for ones in runs(m) for others in runs(n) if (len(ones), len(others)) in counts]
+    for i in range(m - 1):
+        for j in range(n - 1):
+            found.append((((i,), (j + 1,)), ((i + 1,), (j,))))
+    return tuple(found)
+
+
+def places_of(step, side):
+    return sorted(place for link in step for place in link[side])
+
+
+@functools.lru_cache(maxsize=None)
+def own_ways(m, n):
+    """All rows of steps whose places, side by side, are those of all texts, each once, in order."""
+    steps = own_steps(m, n)
+
+    def longer(way, sides):
+        if sides == (list(range(m)), list(range(n))):
+            yield way
+        for step in steps:
+            more = (sides[0] + places_of(step, 0), sides[1] + places_of(step, 1))
+            if all(side == list(range(len(side))) for side in more):
+                yield from longer(way + (step,), more)
+    return tuple(longer((), ([], [])))
+
+
+@functools.lru_cache(maxsize=None)
+def own_cores(text):
+    return {word.lower() for word in re.findall("[A-Za-z0-9]+", text)}
+
+
+def own_hits(ones, others, words):
+    left, right = [set().union(*map(own_cores, texts)) for texts in (ones, others)]
+    return sum(one in left and other in right for one, other in words)
+
+
+def own_size(texts):
+    return len("".join(texts).replace(" ", "").replace("\n", ""))
+
+
+def own_step_cost(ones, others, words, prices, step):
+    """What a step costs, by the document's words."""
+    out, more, cross, stretch, anchor = prices
+    cost = cross if len(step) == 2 else 0
+    for left, right in step:
+        if not left or not right:
+            cost += out
+            continue
+        left, right = [ones[i] for i in left], [others[j] for j in right]
+        cost += more * (max(len(left), len(right)) - 1) + stretch * abs(own_size(left) - own_size(right))
+        cost -= anchor * own_hits(left, right, words)
+    return cost
+
+
+def own_way_cost(ones, others, words, prices, way):
+    return sum(own_step_cost(ones, others, words, prices, step) for step in way)
+
+
+def own_priced(ones, others, words, prices):
+    """All steps there are, wherever: each with where it begins, where it ends, and its cost."""
+    found = []
+    for step in own_steps(len(ones), len(others)):
+        counts = (len(places_of(step, 0)), len(places_of(step, 1)))
+        cost = own_step_cost(ones, others, words, prices, step)
+        for i in places_of(step, 0)[:1] or range(len(ones) + 1):
+            for j in places_of(step, 1)[:1] or range(len(others) + 1):
+                found.append(((i, j), (i + counts[0], j + counts[1]), cost))
+    return found
+
+
+def own_grid(ones, others, words, prices):
+    """The least cost to each place from the begin: the greatest numbers that a grid may have."""
+    least = {(0, 0): 0}
+    for begin, end, cost in sorted(own_priced(ones, others, words, prices)):
+        least[end] = min(least.get(end, least[begin] + cost), least[begin] + cost)
+    return tuple(tuple(least[i, j] for j in range(len(others) + 1)) for i in range(len(ones) + 1))
+
+
+def own_rests(ones, others, words, prices):
+    """A dict of the least cost from each place to the end."""
+    least = {(len(ones), len(others)): 0}
+    for begin, end, cost in sorted(own_priced(ones, others, words, prices), reverse=True):
+        least[begin] = min(least.get(begin, least[end] + cost), least[end] + cost)
+    return least
+
+
+def own_is_paper(ones, others, words, prices, cost, grid):
+    """Whether a grid of whole numbers, of the right size, is a paper of this cost."""
+    held = all(grid[end[0]][end[1]] - grid[begin[0]][begin[1]] <= cost_of_step
+               for begin, end, cost_of_step in own_priced(ones, others, words, prices))
+    return held and grid[0][0] == 0 and grid[-1][-1] == cost
+
+
+TONGUES = (("one", "two", "Three", "four5", "SIX", "7", "eight"),
+           ("eins", "zwei", "Drei", "vier5", "SECHS", "7", "acht"))
+WORDS = tuple((one.lower(), other.lower()) for one, other in zip(*TONGUES)) + (("one", "zwei"), ("none", "keins"))
+
+
+def drawn_text(draw, side):
+    return "".join(draw.choice(TONGUES[side]) + draw.choice((" ", ", ", ".\n")) for turn in range(draw.randrange(4)))
+
+
+def drawn_row_of_texts(draw, side, count):
+    return tuple(drawn_text(draw, side) for turn in range(count))
+
+
+def told_over(draw, ones, count):
+    """So many right texts that say what left ones say, some of these in one another's place."""
+    places = list(range(max(len(ones), count)))
+    for k in range(len(places) - 1):
+        if draw.randrange(3) == 0:
+            places[k:k + 2] = [places[k + 1], places[k]]
+    texts = [ones[place] if place < len(ones) else "" for place in places[:count]]
+    for one, other in zip(*TONGUES):
+        texts = [text.replace(one, other) for text in texts]
+    return tuple(texts)
+
+
+def drawn_case(seed, m, n):
+    """Two rows of texts with words known and prices, the same each time."""
+    draw = random.Random(seed)
+    words = tuple(draw.sample(WORDS, draw.randint(0, len(WORDS))))
+    ones = drawn_row_of_texts(draw, 0, m)
+    others = draw.choice((drawn_row_of_texts(draw, 1, n), told_over(draw, ones, n)))
+    return ones, others, words, drawn_prices(draw)
+
+
+def drawn_prices(draw):
+    """Some of nought, now and then great ones; to leave out a text is often dear, so that the others count too."""
+    most = draw.choice((1, 3, 12, 10 ** 6))
+    out, more, cross, stretch, anchor = [draw.choice((0, 1, 1)) * draw.randint(0, most) for turn in range(5)]
+    return (min(out * draw.choice((1, 5)), 10 ** 6), more, cross, stretch, anchor)
+
+
+def is_plain(thing):
+    """Whether a thing is tuples, texts, whole numbers and None through and through."""
+    if isinstance(thing, tuple):
+        return all(is_plain(each) for each in thing)
+    return thing is None or isinstance(thing, (int, str)) and not isinstance(thing, bool)
+
+
 class Strange:
     """Takes no part in any comparison, and has no length."""
 
@@ -358,6 +509,14 @@ def strange_things():
             [(), (), (), ()], {0: (), 1: (), 2: (), 3: ()}, {"a": 1}, {1, 2, 3, 4}, frozenset((1, 2, 3, 4)), range(4),
             iter(()), itself, object(), Strange(), Strange, tuple, sorted, ValueError("x"), ..., (None,) * 4,
             (1, 2, 3, 4), ("", "", "", ""), ("a", "b", "c", "d"), ((), (), (), None), ([], [], [], []))
+
+
+def deep_tuple():
+    """Laid so deep that a walk down by calls, or a comparison with its like, would fail."""
+    thing = ()
+    for turn in range(100000):
+        thing = (thing,)
+    return thing
 
 
 def places_in(thing, path=()):

@@ -1,46 +1,13 @@
 import itertools
 import unittest
 
-from helper import at, places_in, put_at, strange_things
+from helper import at, own_steps, own_ways, places_in, places_of, put_at, strange_things
 from twainkeep.ways import is_way, passed, steps_from
 
 LEFT = (((0,), ()),)
 RIGHT = (((), (0,)),)
 BOTH = (((0,), (0,)),)
 CROSSED = (((0,), (1,)), ((1,), (0,)))
-
-
-def runs(count):
-    """The rows of neighbours among so many places, the empty one with them."""
-    return [()] + [tuple(range(first, last)) for first in range(count) for last in range(first + 1, count + 1)]
-
-
-def own_steps(m, n):
-    """All steps that may stand in a way through m left texts and n right ones, wherever."""
-    counts = {(0, 1), (1, 0), (1, 1), (1, 2), (1, 3), (2, 1), (3, 1)}
-    found = [((ones, others),) for ones in runs(m) for others in runs(n) if (len(ones), len(others)) in counts]
-    for i in range(m - 1):
-        for j in range(n - 1):
-            found.append((((i,), (j + 1,)), ((i + 1,), (j,))))
-    return found
-
-
-def places_of(step, side):
-    return sorted(place for link in step for place in link[side])
-
-
-def own_ways(m, n):
-    """All rows of steps whose places, side by side, are those of all texts, each once, in order."""
-    steps = own_steps(m, n)
-
-    def longer(way, sides):
-        if sides == (list(range(m)), list(range(n))):
-            yield way
-        for step in steps:
-            more = (sides[0] + places_of(step, 0), sides[1] + places_of(step, 1))
-            if all(side == list(range(len(side))) for side in more):
-                yield from longer(way + (step,), more)
-    return list(longer((), ([], [])))
 
 
 def walked_ways(i, j, m, n):

@@ -1,4 +1,4 @@
-"""What a thing is: a number, a moment, a side, a text, a row of so many; and whether a row rises."""
+"""What a thing is: a number, a moment, a side, a text, a row of so many, a grid; and whether a row rises."""
 
 LAST_MOMENT = 1000000000000
 
@@ -26,6 +26,14 @@ def is_text(thing):
 
 def is_row_of(thing, count):
     return isinstance(thing, tuple) and len(thing) == count
+
+
+def are_numbers(thing):
+    return isinstance(thing, tuple) and all([is_number(each) for each in thing])
+
+
+def is_grid(thing, rows, columns):
+    return is_row_of(thing, rows) and all([is_row_of(row, columns) and are_numbers(row) for row in thing])
 
 
 def rises(row):

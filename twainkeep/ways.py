@@ -1,6 +1,6 @@
 """Ways through two rows of texts, of which only the places count: the steps there are, and which things are ways."""
 
-from twainkeep.kinds import is_number, is_row_of
+from twainkeep.kinds import are_numbers, is_row_of
 
 # How many texts of the left and of the right a step of one link takes.
 SHAPES = ((0, 1), (1, 0), (1, 1), (1, 2), (1, 3), (2, 1), (3, 1))
@@ -26,12 +26,8 @@ def steps_from(i, j, m, n):
     return tuple(sorted(steps))
 
 
-def are_places(thing):
-    return isinstance(thing, tuple) and all([is_number(each) for each in thing])
-
-
 def is_link_of_places(thing):
-    return is_row_of(thing, 2) and are_places(thing[0]) and are_places(thing[1])
+    return is_row_of(thing, 2) and are_numbers(thing[0]) and are_numbers(thing[1])
 
 
 def is_row_of_links(thing):

@@ -27,7 +27,15 @@ def cores_among(texts):
     return cores
 
 
+def places_known(texts, words, side):
+    # By places, so that the hits of many rows of texts can be counted without a look into the texts each time.
+    cores = cores_among(texts)
+    return [place for place, pair in enumerate(words) if pair[side] in cores]
+
+
+def hits_of_places(left, right):
+    return len(set(left) & set(right))
+
+
 def hits(ones, others, words):
-    left = cores_among(ones)
-    right = cores_among(others)
-    return len([pair for pair in words if pair[0] in left and pair[1] in right])
+    return hits_of_places(places_known(ones, words, 0), places_known(others, words, 1))
